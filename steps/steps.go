@@ -7,7 +7,10 @@ import (
 	"millstream/api"
 )
 
-const wordBytes = 8 // bytes of a number that a word holds
+const (
+	wordBytes = 8 // bytes of a number that a word holds
+	halfBytes = 4
+)
 
 // Steps is where a machine is. Without an access it is at its end.
 type Steps struct {
@@ -67,6 +70,11 @@ func (s *Steps) Follow(m Machine, on func()) {
 // Load is the access that loads the number that stands in a word.
 func Load(at int) api.Access {
 	return api.Access{Kind: api.Load, At: at, N: wordBytes}
+}
+
+// LoadHalf is the access that loads the number that stands in half a word.
+func LoadHalf(at int) api.Access {
+	return api.Access{Kind: api.Load, At: at, N: halfBytes}
 }
 
 // Store is the access that stores a number of n bytes.

@@ -75,3 +75,17 @@ func TestFollow(t *testing.T) {
 		t.Error(l)
 	}
 }
+
+// Numbers are loaded, and stored, as a word or as half of one.
+func TestAccesses(t *testing.T) {
+	got := []api.Access{steps.Load(24), steps.LoadHalf(20), steps.Set(8, 7), steps.Store(12, 4, 9)}
+	want := []api.Access{
+		{Kind: api.Load, At: 24, N: 8},
+		{Kind: api.Load, At: 20, N: 4},
+		{Kind: api.Store, At: 8, N: 8, V: 7},
+		{Kind: api.Store, At: 12, N: 4, V: 9},
+	}
+	if !reflect.DeepEqual(got, want) {
+		t.Error(got)
+	}
+}
