@@ -2,6 +2,7 @@ package rings_test
 
 import (
 	"math"
+	"reflect"
 	"testing"
 
 	"millstream/api"
@@ -11,8 +12,8 @@ import (
 // A ring's numbers stand behind its records.
 func TestNumbers(t *testing.T) {
 	r := api.Ring{Base: 16, Size: 64}
-	if a, b, c := rings.Tail(r), rings.HeadCopy(r), rings.Head(r); a != 80 || b != 88 || c != 96 {
-		t.Error(a, b, c)
+	if a, b, c, d := rings.Tail(r), rings.HeadCopy(r), rings.Head(r), rings.End(r); a != 80 || b != 88 || c != 96 || d != 104 {
+		t.Error(a, b, c, d)
 	}
 }
 
@@ -26,5 +27,22 @@ func TestPlace(t *testing.T) {
 		if v, at := rings.Place(r, x.position), rings.At(r, x.position); v != x.place || at != 16+int(x.place) {
 			t.Error(x.position, v, at)
 		}
+	}
+}
+
+// Messages are the same, and none of their memory is.
+func TestMessages(t *testing.T) {
+	if l := rings.Messages(nil); len(l) != 0 {
+		t.Error(l)
+	}
+	l := []api.Message{{Type: 1, Data: []byte("abc")}, {Type: 2}}
+	c := rings.Messages(l)
+	if !reflect.DeepEqual(c, l) {
+		t.Error(c)
+	}
+	clear(c[0].Data)
+	clear(c)
+	if !reflect.DeepEqual(l, []api.Message{{Type: 1, Data: []byte("abc")}, {Type: 2}}) {
+		t.Error(l)
 	}
 }
