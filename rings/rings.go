@@ -1,4 +1,4 @@
-// Package rings is what the layers of rings share: where what belongs to a ring stands in its buffer, and copies of what it hands on.
+// Package rings is what the layers of rings and broadcasts share: where what belongs to one stands in its buffer, how long a message may be, and copies of what is handed on.
 package rings
 
 import (
@@ -8,13 +8,23 @@ import (
 	"millstream/word"
 )
 
-const wordBytes = 8 // bytes of a ring's numbers
+const (
+	wordBytes = 8 // bytes of a ring's numbers
+	share     = 8 // a message may have a ring's bytes divided by it
+)
 
 // How far behind a ring's records each of its numbers stands.
 const (
 	tailBehind = 0
 	copyBehind = 8
 	headBehind = 16
+)
+
+// How far behind a broadcast's records each of its numbers stands.
+const (
+	intentBehind   = 0
+	castTailBehind = 8
+	latestBehind   = 16
 )
 
 // Tail is where a ring's tail stands.
@@ -35,6 +45,26 @@ func Head(r api.Ring) int {
 // End is where the last of a ring's numbers ends.
 func End(r api.Ring) int {
 	return Head(r) + wordBytes
+}
+
+// Intent is where a broadcast's intent stands: the position up to which records are being overwritten.
+func Intent(r api.Ring) int {
+	return r.Base + r.Size + intentBehind
+}
+
+// CastTail is where a broadcast's tail stands.
+func CastTail(r api.Ring) int {
+	return r.Base + r.Size + castTailBehind
+}
+
+// Latest is where the position of a broadcast's last record stands.
+func Latest(r api.Ring) int {
+	return r.Base + r.Size + latestBehind
+}
+
+// Longest is how many bytes a message may have.
+func Longest(r api.Ring) int {
+	return r.Size / share
 }
 
 // Place is a position's place.

@@ -17,6 +17,23 @@ func TestNumbers(t *testing.T) {
 	}
 }
 
+// A broadcast's numbers stand behind its records, too.
+func TestNumbersOfBroadcasts(t *testing.T) {
+	r := api.Ring{Base: 16, Size: 64}
+	if a, b, c := rings.Intent(r), rings.CastTail(r), rings.Latest(r); a != 80 || b != 88 || c != 96 {
+		t.Error(a, b, c)
+	}
+}
+
+// A message may have an eighth of the ring's bytes.
+func TestLongest(t *testing.T) {
+	for _, x := range []struct{ size, longest int }{{64, 8}, {128, 16}, {8192, 1024}} {
+		if n := rings.Longest(api.Ring{Base: 16, Size: x.size}); n != x.longest {
+			t.Error(x.size, n)
+		}
+	}
+}
+
 // A position's place isn't below 0.
 func TestPlace(t *testing.T) {
 	r := api.Ring{Base: 16, Size: 64}
